@@ -25,17 +25,13 @@ func expectRejected(t *testing.T, text string, want int) {
 // textForm returns the form of the texts of printable catalogues.
 func textForm() grammar.Form {
 	word, number, identifier := grammar.Word, grammar.Number(), grammar.Identifier()
-	days := make([]grammar.Form, 7)
-	for i, name := range dayNames {
-		days[i] = word(name)
-	}
 	space := word(" ")
 	anchor := grammar.Choice(
 		grammar.Sequence(word("fixed "), number, space, number),
 		grammar.Sequence(word("easter "), number),
-		grammar.Sequence(word("nth "), grammar.Choice(days...), space, number, space, number, space, number),
+		grammar.Sequence(word("nth "), grammar.Words(dayNames...), space, number, space, number, space, number),
 	)
-	policy := grammar.Choice(word("transfer"), word("commemorate"), word("omit"))
+	policy := grammar.Words("transfer", "commemorate", "omit")
 	return grammar.Sequence(
 		word("catalogue\nfree "), number, word("\n"),
 		grammar.Repeat(grammar.Sequence(word("season "), identifier, space, number, space, number, space, anchor, word("\n"))),
@@ -146,21 +142,10 @@ func TestParseOfOtherEnds(t *testing.T) {
 // tells which of these texts are accepted.
 func TestParseOfOtherOrders(t *testing.T) {
 	form := textForm()
-	lines := strings.SplitAfter(smallText, "\n")
-	lines = lines[:len(lines)-1]
-	for i := range lines {
-		expectByDefinition(t, form, strings.Join(slices.Delete(slices.Clone(lines), i, i+1), ""))
-		for j := range len(lines) + 1 {
-			for _, line := range []string{lines[i], "\n", " \n"} {
-				expectByDefinition(t, form, strings.Join(slices.Insert(slices.Clone(lines), j, line), ""))
-			}
-		}
-		for j := range lines {
-			swapped := slices.Clone(lines)
-			swapped[i], swapped[j] = lines[j], lines[i]
-			expectByDefinition(t, form, strings.Join(swapped, ""))
-		}
+	for text := range grammar.ChangedLines(smallText) {
+		expectByDefinition(t, form, text)
 	}
+	lines := slices.Collect(strings.Lines(smallText))
 	// A season behind a feast.
 	expectRejected(t, "catalogue\nfree 0\nfeast a 1 omit easter 3\nseason s 1 2 easter 3\nend\n", 41)
 	// No end, no head, and one line of each only.
@@ -174,18 +159,12 @@ func TestParseOfOtherOrders(t *testing.T) {
 // P26.2: one byte of a text is replaced by another one, removed or doubled.
 func TestParseOfChangedBytes(t *testing.T) {
 	form := textForm()
-	for i := range len(smallText) {
-		for _, b := range []byte("\x00\t\n\r +-.0159AFZaefnostxz~\x7f\x80\xc3\xff") {
-			expectByDefinition(t, form, smallText[:i]+string([]byte{b})+smallText[i+1:])
-		}
-		expectByDefinition(t, form, smallText[:i]+smallText[i+1:])
-		expectByDefinition(t, form, smallText[:i]+smallText[i:i+1]+smallText[i:])
+	for text := range grammar.ChangedBytes(smallText, "\x00\t\n\r +-.0159AFZaefnostxz~\x7f\x80\xc3\xff") {
+		expectByDefinition(t, form, text)
 	}
-	text := textByDefinition(builtin.Catalogue())
-	for i := range len(text) {
-		for _, b := range []byte(" \n-0Ae") {
-			expectByDefinition(t, form, text[:i]+string([]byte{b})+text[i+1:])
-		}
+	long := textByDefinition(builtin.Catalogue())
+	for text := range grammar.ChangedBytes(long, " \n-0Ae") {
+		expectByDefinition(t, form, text)
 	}
 }
 
@@ -194,12 +173,11 @@ func TestParseOfChangedBytes(t *testing.T) {
 func TestParseOfEveryByte(t *testing.T) {
 	form := textForm()
 	text := "catalogue\nfree 1\nseason s-2 -1 0 fixed 1 2\nfeast f 1 omit nth friday 1 2 3\nend\n"
-	for i := range len(text) {
-		for b := range 256 {
-			c := string([]byte{byte(b)})
-			expectByDefinition(t, form, text[:i]+c+text[i+1:])
-			expectByDefinition(t, form, text[:i]+c+text[i:])
-		}
+	for changed := range grammar.ChangedBytes(text, grammar.AllBytes()) {
+		expectByDefinition(t, form, changed)
+	}
+	for changed := range grammar.InsertedBytes(text, grammar.AllBytes()) {
+		expectByDefinition(t, form, changed)
 	}
 }
 

@@ -1,6 +1,7 @@
 // Package grammar finds, by a definition, the first offending byte of a text. Unlike
 // a scanner it follows all ways of reading the text at once, so that the tests of the
-// packages that parse texts can compare both. Nothing but tests uses it.
+// packages that parse texts can compare both, and it changes texts for them. Nothing
+// but tests uses it.
 package grammar
 
 import (
@@ -35,6 +36,15 @@ func Word(word string) Form {
 		func(part string) bool { return part == word },
 		func(part string) bool { return strings.HasPrefix(word, part) },
 	)
+}
+
+// Words returns the form of any of the words.
+func Words(words ...string) Form {
+	var forms []Form
+	for _, word := range words {
+		forms = append(forms, Word(word))
+	}
+	return Choice(forms...)
 }
 
 // Number returns the form of the numbers of layer 25.

@@ -55,6 +55,7 @@ func TestMatchOfFiniteForms(t *testing.T) {
 		{grammar.Sequence(ab, aba), []string{"ababa"}},
 		{grammar.Choice(ab, aba), []string{"ab", "aba"}},
 		{grammar.Choice(aba, b), []string{"aba", "b"}},
+		{grammar.Words("aba", "b"), []string{"aba", "b"}},
 		{grammar.Sequence(grammar.Choice(ab, aba), grammar.Choice(a, ab)), []string{"aba", "abab", "abaa", "abaab"}},
 		{grammar.Repeat(ab), []string{"", "ab", "abab", "ababab", "abababab"}},
 		{grammar.Sequence(grammar.Repeat(ab), a), []string{"a", "aba", "ababa", "abababa"}},
